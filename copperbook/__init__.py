@@ -1,0 +1,1 @@
+"""Copperbook: boards of copper, each answer with what shows it."""
