@@ -26,6 +26,10 @@ class Block(Shape):
         """The sorted list of the places."""
         return box_places(self.x, self.y, self.wide, self.high)
 
+    def box(self):
+        """The least box around the places: (x, y, wide, high)."""
+        return (self.x, self.y, self.wide, self.high)
+
     def moved(self, across, down):
         """The block with each place farther by these."""
         need_whole([across, down])
@@ -70,6 +74,15 @@ class Line(Shape):
             places.extend(box_places(x, y, wide, high))
         return sorted(set(places))
 
+    def box(self):
+        """The least box around the places: (x, y, wide, high)."""
+        half = self.width // 2
+        across = [corner[0] for corner in self.corners]
+        down = [corner[1] for corner in self.corners]
+        wide = max(across) - min(across) + self.width
+        high = max(down) - min(down) + self.width
+        return (min(across) - half, min(down) - half, wide, high)
+
     def moved(self, across, down):
         """The line with each place farther by these."""
         need_whole([across, down])
@@ -109,6 +122,10 @@ class Frame(Shape):
         """The sorted list of the places."""
         places = box_places(self.x, self.y, self.wide, self.high)
         return [place for place in places if self.steps_from_edge(place) < self.thick]
+
+    def box(self):
+        """The least box around the places: (x, y, wide, high)."""
+        return (self.x, self.y, self.wide, self.high)
 
     def steps_from_edge(self, place):
         """How many steps a place of the box lies from the box's edge."""

@@ -1,4 +1,4 @@
-"""Texts parted into words by single blanks, and numbers as figures."""
+"""Texts parted into rows by line ends and into words by single blanks, and numbers as figures."""
 
 FIGURES = "0123456789"
 MOST_FIGURES = 40
@@ -8,6 +8,12 @@ def is_whole(value):
     """Whether a value is a whole number."""
     # True and False are ints to Python, but no numbers here.
     return isinstance(value, int) and not isinstance(value, bool)
+
+
+def is_short(number):
+    """Whether a whole number has at most MOST_FIGURES figures."""
+    # Counting the figures of its text would fail for a very long number.
+    return abs(number) < 10 ** 40
 
 
 def read_number(word):
@@ -36,6 +42,18 @@ def read_row(text):
     return (words[0], numbers)
 
 
+def read_lines(text):
+    """The list of a text's rows, each of which has a line end behind it, or None for any other text."""
+    if not isinstance(text, str) or not text.endswith("\n"):
+        return None
+    return text.split("\n")[:-1]
+
+
 def tell_row(word, numbers):
     """The text of a word and the numbers behind it."""
     return " ".join([word] + [str(number) for number in numbers])
+
+
+def tell_lines(rows):
+    """The text of rows, each with a line end behind it."""
+    return "".join([row + "\n" for row in rows])

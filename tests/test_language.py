@@ -117,6 +117,25 @@ class LanguageTest(unittest.TestCase):
             for name in node.names:
                 self.assertIn(name.name, tops[node.module], (path, node.module))
 
+    def test_no_two_files_draw_from_one_another(self):
+        drawn = {"copperbook." + path.stem: set() for path in files()}
+        for path, node in nodes(ast.ImportFrom):
+            drawn["copperbook." + path.stem].add(node.module)
+        while drawn:
+            free = [name for name in drawn if not drawn[name] & set(drawn)]
+            self.assertNotEqual(free, [], drawn)
+            for name in free:
+                del drawn[name]
+
+    def test_comparisons_and_handlers(self):
+        for path, node in nodes(ast.Compare):
+            for sign, value in zip(node.ops, node.comparators):
+                if isinstance(sign, (ast.Is, ast.IsNot)):
+                    self.assertIn(getattr(value, "value", value), [None, True, False], (path, node.lineno))
+        for path, node in nodes(ast.ExceptHandler):
+            self.assertIsInstance(node.type, ast.Name, (path, node.lineno))
+            self.assertNotIn(node.type.id, ["Exception", "TypeError"], (path, node.lineno))
+
     def test_names(self):
         for path, node in nodes(ast.AST):
             for name in bound_names(node):

@@ -84,6 +84,13 @@ class PlacesTest(Case):
                 self.assertIs(type(place), tuple)
                 self.assertEqual([type(number) for number in place], [int, int])
 
+    def test_a_box_is_the_least_one_around_the_places(self):
+        for shape in samples():
+            across = [place[0] for place in shape.cells()]
+            down = [place[1] for place in shape.cells()]
+            wide, high = max(across) - min(across) + 1, max(down) - min(down) + 1
+            self.assertEqual(shape.box(), (min(across), min(down), wide, high), shape.told())
+
     def test_block_by_hand(self):
         self.assertEqual(Block(0, 0, 1, 1).cells(), [(0, 0)])
         self.assertEqual(Block(-1, 2, 2, 3).cells(), [(-1, 2), (-1, 3), (-1, 4), (0, 2), (0, 3), (0, 4)])

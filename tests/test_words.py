@@ -2,7 +2,7 @@
 
 import unittest
 
-from copperbook.words import is_whole, read_number, read_row, tell_row
+from copperbook.words import is_short, is_whole, read_lines, read_number, read_row, tell_lines, tell_row
 
 NINES = "9" * 40
 
@@ -13,6 +13,13 @@ class WordsTest(unittest.TestCase):
             self.assertIs(is_whole(value), True, value)
         for value in [True, False, None, "1", 1.0, [1], (1,)]:
             self.assertIs(is_whole(value), False, value)
+
+    def test_short_numbers_have_at_most_forty_figures(self):
+        for number in [0, 1, -1, 10 ** 39, int(NINES), -int(NINES)]:
+            self.assertIs(is_short(number), True, number)
+        for number in [10 ** 40, -10 ** 40, 10 ** 41]:
+            self.assertIs(is_short(number), False, number)
+        self.assertIs(is_short(10 ** 5000), False)
 
     def test_numbers_are_read(self):
         for number in [0, 1, 9, 10, 100, -1, -10, int(NINES), -int(NINES)]:
@@ -33,6 +40,15 @@ class WordsTest(unittest.TestCase):
     def test_other_rows_are_none(self):
         for text in ["x  1", "x 1 ", "x 1\n", "x\t1 1\t", "x one", "x 1 +2", None, 3, b"x 1"]:
             self.assertIsNone(read_row(text), repr(text))
+
+    def test_lines_are_told_and_read(self):
+        for rows, text in [(["a"], "a\n"), (["a b", "", "c"], "a b\n\nc\n"), ([""], "\n"), (["a\r", "\tb"], "a\r\n\tb\n")]:
+            self.assertEqual(tell_lines(rows), text)
+            self.assertEqual(read_lines(text), rows)
+
+    def test_other_texts_have_no_lines(self):
+        for text in ["", "a", "a\nb", "a\n ", None, 3, b"a\n", ["a\n"]]:
+            self.assertIsNone(read_lines(text), repr(text))
 
 
 if __name__ == "__main__":
