@@ -23,6 +23,15 @@ def islands(board):
     return found
 
 
+def homes(board):
+    """A dict from each cell of copper to the least cell of its island, by which islands are told apart."""
+    least = {}
+    for island in islands(board):
+        for cell in island:
+            least[cell] = island[0]
+    return least
+
+
 def island_of(board, cell):
     """The island with this cell, a sorted list."""
     need_copper(board, cell)

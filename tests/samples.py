@@ -1,9 +1,10 @@
-"""Boards that several tests ask about, and what a board tells in one tuple."""
+"""Boards and drawings that several tests ask about, and what each tells in one tuple."""
 
 import itertools
 import random
 
 from copperbook.boards import Board
+from copperbook.drawings import Drawing
 
 
 def squares(wide, high):
@@ -40,3 +41,21 @@ def every_board(size):
 
 def told(board):
     return (board.wide, board.high, board.layers, board.cells(), board.holes())
+
+
+def some_drawing(seed, parts=8, nets=24):
+    """A drawing with this many parts and at most this many nets, the same one for the same seed."""
+    chance = random.Random(seed)
+    names = chance.sample(["a", "b", "c2", "d10", "d9", "e", "f0f0f0f0", "zz", "aa", "b1"], parts)
+    rows = [(name, chance.choice(["r", "cap"]), chance.randint(1, 8)) for name in names]
+    pins = [(name, number) for name, _, many in rows for number in range(many)]
+    chance.shuffle(pins)
+    many = chance.randint(min(1, len(pins)), min(nets, len(pins)))
+    cuts = [0] + sorted(chance.sample(range(1, len(pins)), many - 1)) + [len(pins)] if many else [0]
+    titles = chance.sample([f"n{number}" for number in range(40)], many)
+    return Drawing(rows, [(title, pins[left:right]) for title, left, right in zip(titles, cuts, cuts[1:])])
+
+
+def drawn(drawing):
+    return (list(drawing.parts), [(name, list(pins)) for name, pins in drawing.nets], drawing.pins(),
+            [drawing.net_of(pin) for pin in drawing.pins()])

@@ -5,7 +5,7 @@ import unittest
 
 from copperbook.boards import Board
 from copperbook.errors import NoCopper
-from copperbook.islands import island_of, islands, near, walk
+from copperbook.islands import homes, island_of, islands, near, walk
 from copperbook.pictures import picture, read_picture
 from copperbook.shapes import Block
 from samples import all_cells, every_board, some_board
@@ -50,6 +50,7 @@ class Case(unittest.TestCase):
         text, cells, steps = picture(board), board.cells(), steps_between(board)
         whole = [[other for other in cells if (one, other) in steps] for one in cells]
         self.assertEqual(islands(board), [island for one, island in zip(cells, whole) if one == island[0]])
+        self.assertEqual(homes(board), {one: island[0] for one, island in zip(cells, whole)})
         for one, island in zip(cells, whole):
             self.assertEqual(near(board, one), [other for other in cells if joined(board, one, other)])
             self.assertEqual(island_of(board, one), island)
