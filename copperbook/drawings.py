@@ -18,7 +18,8 @@ class Drawing:
         need_rows(nets, MOST_NETS, need_net)
         self.parts = list(parts)
         self.nets = [(net[0], list(net[1])) for net in nets]
-        # The lists can be changed by whoever is told them; which pin is in which net then stays by this dict.
+        # The lists can be changed by whoever is told them; what the drawing is then stays by these dicts.
+        self.kinds = part_kinds(parts)
         self.joins = joined_pins(parts, nets)
 
     def pins(self):
@@ -35,6 +36,24 @@ class Drawing:
         """Whether the drawing has a pin."""
         # A truth would be found among the keys as the number that it equals, so the pin is looked at first.
         return is_pin(pin) and pin in self.joins
+
+    def net_pins(self):
+        """A dict from each net's name, as the nets stand, to the sorted list of its pins."""
+        # The dict of joins goes net by net, and no net is without a pin, so each name comes up in its turn.
+        nets = {}
+        for pin in self.joins:
+            nets[self.joins[pin]] = []
+        for pin in self.pins():
+            nets[self.joins[pin]].append(pin)
+        return nets
+
+
+def part_kinds(parts):
+    """A dict from each part's name, as the parts stand, to its kind and how many pins it has."""
+    kinds = {}
+    for name, kind, many in parts:
+        kinds[name] = (kind, many)
+    return kinds
 
 
 def joined_pins(parts, nets):

@@ -69,13 +69,23 @@ def spread(board, start):
 
 def neighbours(board, cell):
     """The sorted cells of copper beside a cell, and over and under it at a hole."""
+    spots = beside(cell)
+    if board.has_hole(cell[0], cell[1]):
+        spots.extend(over_and_under(cell, board.layers))
+    return sorted([spot for spot in spots if board.is_copper(spot[0], spot[1], spot[2])])
+
+
+def beside(cell):
+    """The list of the four cells beside a cell in its layer, beyond the board's edge too."""
     x = cell[0]
     y = cell[1]
     z = cell[2]
-    spots = [(x - 1, y, z), (x + 1, y, z), (x, y - 1, z), (x, y + 1, z)]
-    if board.has_hole(x, y):
-        spots.extend([(x, y, layer) for layer in range(board.layers) if layer != z])
-    return sorted([spot for spot in spots if board.is_copper(spot[0], spot[1], spot[2])])
+    return [(x - 1, y, z), (x + 1, y, z), (x, y - 1, z), (x, y + 1, z)]
+
+
+def over_and_under(cell, layers):
+    """The list of the cells at a cell's square in all other ones of so many layers."""
+    return [(cell[0], cell[1], z) for z in range(layers) if z != cell[2]]
 
 
 def need_copper(board, cell):

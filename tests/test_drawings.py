@@ -269,6 +269,22 @@ class RefusedTest(unittest.TestCase):
             self.refused([("a", "k", 1)], wrong)
 
 
+class OwnTest(unittest.TestCase):
+    def test_pins_by_nets(self):
+        drawing = Drawing([("b", "k", 2), ("a", "m", 2)], [("z", [("b", 1), ("a", 1), ("b", 0)]), ("m", [("a", 0)])])
+        rows = [("z", [("a", 1), ("b", 0), ("b", 1)]), ("m", [("a", 0)])]
+        self.assertEqual(list(drawing.net_pins().items()), rows)
+        drawing.net_pins()["z"].clear()
+        drawing.net_pins().clear()
+        drawing.nets.clear()
+        self.assertEqual(list(drawing.net_pins().items()), rows)
+
+    def test_kinds_as_the_parts_stand(self):
+        drawing = Drawing([("b", "k", 1), ("a", "m", 2)], [("n", [("a", 0), ("b", 0), ("a", 1)])])
+        drawing.parts.reverse()
+        self.assertEqual(list(drawing.kinds.items()), [("b", ("k", 1)), ("a", ("m", 2))])
+
+
 class InterfaceTest(unittest.TestCase):
     def test_arguments(self):
         for ask, row in [(Drawing, "(parts, nets)"), (Drawing.pins, "(self)"), (Drawing.net_of, "(self, pin)")]:
